@@ -1,0 +1,1 @@
+"""Nearsums: numbers in a row whose neighbours come to told sums."""
