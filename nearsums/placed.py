@@ -1,6 +1,7 @@
 """Rows and rings of a plan: what is one, and the first of each."""
 
 from nearsums.plans import add_up, check_plan, is_whole
+from nearsums.steps import Steps, all_places, near_places, numbers_at
 
 FEWEST_IN_RING = 3
 
@@ -27,15 +28,9 @@ def is_ring(plan, thing):
     return add_up(plan, thing[-1], thing[0])
 
 
-def near_places(plan, number):
-    return [place for place, other in enumerate(plan[0]) if add_up(plan, number, other)]
-
-
-class Search:
-    # A number is known by its place in the plan, a set of numbers by a whole number with a bit for each place.
-
-    def __init__(self, plan, last_places):
-        self.near = [near_places(plan, number) for number in plan[0]]
+class Search(Steps):
+    def __init__(self, plan, first_places, last_places):
+        Steps.__init__(self, plan, first_places)
         self.last_places = list(last_places)
         # By a set still to be laid and the end it is laid behind, so that no row reckons it anew.
         self.onward = {}
@@ -49,37 +44,32 @@ class Search:
         return self.onward[key] is not None
 
     def first_step(self, left, end):
-        for place in self.near[end]:
-            bit = 1 << place
-            if left & bit and self.can_end(left - bit, place):
+        for place in self.steps(left, end):
+            if self.can_end(left - (1 << place), place):
                 return place
         return None
 
-    def places_from(self, start):
-        left = (1 << len(self.near)) - 1 - (1 << start)
-        if not self.can_end(left, start):
-            return None
-        places = [start]
+    def found_places(self):
+        places = []
+        left = self.whole
+        end = self.ahead
         while left:
-            place = self.onward[(left, places[-1])]
-            places.append(place)
-            left = left - (1 << place)
+            end = self.onward[(left, end)]
+            places.append(end)
+            left = left - (1 << end)
         return places
 
 
-def first_from(plan, starts, last_places):
-    search = Search(plan, last_places)
-    for start in starts:
-        places = search.places_from(start)
-        if places is not None:
-            return [plan[0][place] for place in places]
-    return None
+def first_from(plan, first_places, last_places):
+    search = Search(plan, first_places, last_places)
+    if not search.can_end(search.whole, search.ahead):
+        return None
+    return numbers_at(plan, search.found_places())
 
 
 def first_row(plan):
     check_plan(plan)
-    everywhere = list(range(len(plan[0])))
-    return first_from(plan, everywhere, everywhere)
+    return first_from(plan, all_places(plan), all_places(plan))
 
 
 def first_ring(plan):

@@ -41,3 +41,13 @@ def odd_things():
         [EqualToAll()], [BearsNothing()], ([EqualToAll()], []), ([BearsNothing()], []), ([1], [EqualToAll()]),
         ([1], [BearsNothing()]), (BearsNothing(), EqualToAll()),
     ]
+
+
+def check_refused(case, refusal, asked, *arguments):
+    """Sees that this very refusal comes, none that stands under it or above it."""
+    try:
+        asked(*arguments)
+    except refusal as taken:
+        case.assertIs(type(taken), refusal)
+    else:
+        case.fail(refusal.__name__ + " did not come")

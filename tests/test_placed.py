@@ -1,9 +1,10 @@
 import copy
 import inspect
 import itertools
-import sys
 import unittest
 
+from by_trying import (KINDS, calls_of, nearly_plans, neighbours_fit, plans_to_try, rings_by_trying, rows_by_trying,
+                       small_plans, ways_by_trying)
 from nearsums.errors import NoPlan, SumError
 from nearsums.placed import first_ring, first_row, is_ring, is_row
 from nearsums.plans import plan_of
@@ -12,41 +13,6 @@ from odd_things import BearsNothing, EqualToAll, odd_things
 LARGE = 10 ** 24
 NINES = 10 ** 25 - 1
 ASKED = [first_row, first_ring]
-
-
-def neighbours_fit(plan, numbers):
-    return all(one + other in plan[1] for one, other in zip(numbers, numbers[1:]))
-
-
-def rows_by_trying(plan):
-    return [list(order) for order in itertools.permutations(plan[0]) if neighbours_fit(plan, order)]
-
-
-def rings_by_trying(plan, rows):
-    return [row for row in rows if len(row) > 2 and row[-1] + row[0] in plan[1]]
-
-
-def subsets(things):
-    for size in range(len(things) + 1):
-        for chosen in itertools.combinations(things, size):
-            yield list(chosen)
-
-
-def small_plans():
-    for numbers in [[0], [4], [0, 1], [1, 2], [0, 1, 2], [1, 2, 3], [2, 5, 9], [0, 1, 2, 3], [1, 2, 3, 4],
-                    [1, 3, 4, 9], [0, 1, 2, 3, 4], [1, 2, 3, 4, 5]]:
-        found = sorted({one + other for one in numbers for other in numbers})
-        for sums in subsets(found):
-            if len(sums) <= 10:
-                yield numbers, sums
-
-
-def broader_plans():
-    for numbers in [[0, 1, 2, 3, 4, 5], [1, 2, 3, 4, 5, 6], [0, 1, 3, 4, 6, 9]]:
-        for sums in itertools.combinations(range(2, 11), 4):
-            yield numbers, list(sums)
-    for sums in [[4, 7, 9, 12], [3, 5, 8, 9, 11, 13], [4, 8, 9, 10, 11], [7, 8], [8, 9], [3, 8, 9, 13]]:
-        yield [1, 2, 3, 4, 5, 6, 7], sums
 
 
 class TestByTrying(unittest.TestCase):
@@ -59,7 +25,7 @@ class TestByTrying(unittest.TestCase):
 
     def test_first_ones_are_the_first_of_all(self):
         seen = {"no row": 0, "no ring": 0, "ring": 0}
-        for plan in itertools.chain(small_plans(), broader_plans()):
+        for plan in plans_to_try():
             with self.subTest(plan=plan):
                 rows, rings = self.check(plan)
                 seen["no row" if not rows else "no ring" if not rings else "ring"] += 1
@@ -76,7 +42,7 @@ class TestByTrying(unittest.TestCase):
                     self.assertIs(is_ring(plan, list(order)), ring)
 
     def test_plans_of_kinds_up_to_eight(self):
-        for kind in ["squares", "threes", "primes", "powers"]:
+        for kind in KINDS:
             for n in range(1, 9):
                 with self.subTest(kind=kind, n=n):
                     self.check(plan_of(kind, n))
@@ -240,8 +206,7 @@ class TestRefused(unittest.TestCase):
                     self.assertIsInstance(taken.exception, ValueError)
 
     def test_what_is_nearly_a_plan(self):
-        for thing in [([2, 1], [3]), ([1, 1], [3]), ([1, 2], (3,)), [[1, 2], [3]], (list(range(11)), [3]),
-                      ([1, 2], list(range(11))), ([-1, 1], [0]), ([True, 2], [3]), ([], [])]:
+        for thing in nearly_plans():
             with self.subTest(thing=thing):
                 for asked in ASKED:
                     self.assertRaises(NoPlan, asked, thing)
@@ -295,36 +260,14 @@ class TestNothingShared(unittest.TestCase):
         self.assertRaises(NoPlan, first_row, plan)
 
 
-def calls_of(asked, plan):
-    """How many calls of functions written in Python the answer takes, and the answer."""
-    calls = []
-
-    def note(frame, event, extra):
-        if event == "call":
-            calls.append(1)
-
-    before = sys.getprofile()
-    sys.setprofile(note)
-    try:
-        told = asked(plan)
-    finally:
-        sys.setprofile(before)
-    return len(calls), told
-
-
 class TestReckonedOnce(unittest.TestCase):
     # Nine numbers with many ways among them, and one that none of the ways comes to: there is nothing to find,
     # and there are far more ways than sets of the nine with an end.
     PLAN = (list(range(9)) + [100], list(range(3, 13)))
     BESIDE = 1000
 
-    def ways(self, row, left):
-        if len(row) > 1 and row[-1] + row[-2] not in self.PLAN[1]:
-            return 0
-        return 1 + sum(self.ways(row + [number], [x for x in left if x != number]) for number in left)
-
     def check(self, asked, sets_and_ends, ways):
-        # Each set and end asks for at most eight others, and is itself reckoned in one call more.
+        # A set and end asks for four others in the mean, eight at most, and is itself reckoned in a few calls more.
         bound = sets_and_ends * 9 + self.BESIDE
         self.assertGreater(ways, 2 * bound)
         calls, told = calls_of(asked, self.PLAN)
@@ -332,11 +275,11 @@ class TestReckonedOnce(unittest.TestCase):
         self.assertLess(calls, bound)
 
     def test_rows(self):
-        ways = sum(self.ways([start], [x for x in range(9) if x != start]) for start in range(9))
+        ways = sum(ways_by_trying(self.PLAN, [start]) for start in range(9))
         self.check(first_row, 9 * 2 ** 8, ways)
 
     def test_rings(self):
-        self.check(first_ring, 8 * 2 ** 7, self.ways([0], list(range(1, 9))))
+        self.check(first_ring, 8 * 2 ** 7, ways_by_trying(self.PLAN, [0]))
 
 
 class TestInterface(unittest.TestCase):
