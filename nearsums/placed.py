@@ -1,6 +1,6 @@
 """Rows and rings of a plan: what is one, and the first of each."""
 
-from nearsums.plans import add_up, check_plan, is_whole
+from nearsums.plans import add_up, check_plan, is_list_of_wholes
 from nearsums.steps import Steps, all_places, near_places, numbers_at
 
 FEWEST_IN_RING = 3
@@ -12,9 +12,7 @@ def are_neighbours(plan, numbers):
 
 def holds_all(plan, thing):
     # Kinds are asked first: True is like 1 in a comparison, and other things need not bear sorting.
-    if not isinstance(thing, list) or not all([is_whole(number) for number in thing]):
-        return False
-    return sorted(thing) == plan[0]
+    return is_list_of_wholes(thing) and sorted(thing) == plan[0]
 
 
 def is_row(plan, thing):

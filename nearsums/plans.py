@@ -10,6 +10,10 @@ def is_whole(thing):
     return isinstance(thing, int) and not isinstance(thing, bool)
 
 
+def is_list_of_wholes(thing):
+    return isinstance(thing, list) and all([is_whole(number) for number in thing])
+
+
 def is_rising_list(thing, fewest):
     if not isinstance(thing, list) or not fewest <= len(thing) <= MOST:
         return False

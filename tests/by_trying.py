@@ -69,6 +69,14 @@ def nearly_plans():
             ([True, 2], [3]), ([1, 2], [True, 3]), ([], [3]), ([], [])]
 
 
+def mixed_numbers():
+    """Whole numbers without end, well mixed and the same each time."""
+    number = 1
+    while True:
+        number = (number * 1103515245 + 12345) % 2 ** 31
+        yield number // 2 ** 16
+
+
 def ways_by_trying(plan, row):
     """How many part rows begin with this one."""
     onward = [number for number in plan[0] if number not in row and number + row[-1] in plan[1]]

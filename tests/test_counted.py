@@ -110,7 +110,7 @@ class TestCounts(unittest.TestCase):
 
 
 class TestTenNumbers(unittest.TestCase):
-    # These counts, and the rows below, were found by going through all orders of ten numbers, which takes too long for a test.
+    # These counts, and the rows below, were found by going through all orders of ten numbers: too long for a test.
     KNOWN = [(DENSE, 311520, 233440), (plan_of("primes", 10), 1328, 960), (plan_of("threes", 10), 2, 0),
              (plan_of("squares", 10), 0, 0)]
 
